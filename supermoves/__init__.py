@@ -1,0 +1,1 @@
+"""supermoves: a card table whose every hint is exact."""

@@ -1,0 +1,41 @@
+"""The interface: names, arguments, and where each name is defined."""
+
+import importlib
+import inspect
+import unittest
+
+ERRORS = ["MoveError", "InvalidNumber", "InvalidRules", "InvalidCard", "InvalidPosition", "InvalidPlace",
+          "InvalidMove", "InvalidGame", "InvalidKind", "InvalidRoom", "InvalidPlan", "InvalidSupermove",
+          "InvalidText", "InvalidDeed", "TooMany", "Stuck", "NothingToUndo", "NothingToRedo"]
+
+FUNCTIONS = {
+    "cards": "is_rules(value); is_card(rules, value); deck(rules); lies_on(rules, card, other); takers(rules, card)",
+    "positions": "is_position(rules, value); is_place(rules, position, value); is_move(rules, position, value); "
+                 "is_supermove(rules, position, value); is_kind(value); is_room(value); "
+                 "dealt(rules, cards, columns, cells); place_of(rules, position, card); "
+                 "card_at(rules, position, place); runs(rules, position); is_won(rules, position)",
+    "texts": "text_of_card(rules, card); card_of_text(rules, text); text_of_position(rules, position); "
+             "position_of_text(rules, text); text_of_move(rules, position, move); "
+             "move_of_text(rules, position, text)",
+}
+
+
+class Interface(unittest.TestCase):
+    def test_errors_are_defined_in_their_file(self):
+        module = importlib.import_module("supermoves.errors")
+        for name in ERRORS:
+            self.assertTrue(inspect.isclass(getattr(module, name)))
+            self.assertEqual(getattr(module, name).__module__, "supermoves.errors")
+
+    def test_functions_are_defined_in_their_file(self):
+        for file, rows in FUNCTIONS.items():
+            module = importlib.import_module("supermoves." + file)
+            for row in rows.split("; "):
+                name, told = row[:-1].split("(")
+                function = getattr(module, name)
+                self.assertTrue(inspect.isfunction(function), name)
+                self.assertEqual(function.__module__, "supermoves." + file)
+                self.assertEqual(list(inspect.signature(function).parameters), told.split(", "), name)
+                for parameter in inspect.signature(function).parameters.values():
+                    self.assertIs(parameter.default, inspect.Parameter.empty)
+                    self.assertEqual(parameter.kind, inspect.Parameter.POSITIONAL_OR_KEYWORD)
