@@ -149,6 +149,12 @@ def are_tops(value):
     return all([low < high for low, high in zip(value, value[1:])])
 
 
+def check_tops(tops):
+    """Refuse what are no helping tops."""
+    if not are_tops(tops):
+        raise InvalidRoom(tops)
+
+
 def is_room(value):
     """Whether a value is a room."""
     if not is_tuple_of(value, 3):

@@ -60,14 +60,13 @@ def text_of_position(rules, position):
 
 
 def column_told(rules, number, line):
-    """The cards that the line of a column tells, None if it is not such a line."""
+    """What the line of a column tells, with None for what is no card; None if it is no such line."""
     words = line.split(" ")
-    cards = [card_told(rules, word) for word in words[1:]]
-    return None if words[0] != f"{number + 1}:" or None in cards else cards
+    return [card_told(rules, word) for word in words[1:]] if words[0] == f"{number + 1}:" else None
 
 
 def cells_told(rules, line):
-    """The cells that their line tells, None if it is not such a line."""
+    """What the line of the cells tells, None if it is no such line."""
     words = line.split(" ")
     cells = [card_told(rules, word) for word in words[1:]]
     for word, card in zip(words[1:], cells):
@@ -77,12 +76,11 @@ def cells_told(rules, line):
 
 
 def homes_told(rules, line):
-    """The homes that their line tells, None if it is not such a line."""
+    """What the line of the homes tells, with None for what is no count; None if it is no such line."""
     # Looked up and not reckoned, so that no number of figures is too great.
     counts = {str(home): home for home in range(rules[0] + 1)}
     words = line.split(" ")
-    homes = [counts.get(word) for word in words[1:]]
-    return None if words[0] != "homes:" or None in homes else homes
+    return [counts.get(word) for word in words[1:]] if words[0] == "homes:" else None
 
 
 def position_told(rules, text):
@@ -93,7 +91,7 @@ def position_told(rules, text):
     if len(lines) < 4 or lines[-1] != "":
         return None
     columns = [column_told(rules, number, line) for number, line in enumerate(lines[:-3])]
-    # A line that tells nothing left None there, with which it is no position.
+    # Where a line tells nothing, None stands in the place of a list or a card: then this is no position.
     position = (columns, cells_told(rules, lines[-3]), homes_told(rules, lines[-2]))
     return position if fits_rules(rules, position) else None
 

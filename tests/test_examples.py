@@ -28,7 +28,48 @@ runs((5, 2, "other"), ([[(5, 0), (3, 1), (2, 0)], [(5, 1), (4, 0), (4, 1), (3, 0
 # ["a2", (("column", 0), ("home", 1)), (("cell", 0), ("home", 0)), (("column", 2), ("cell", 1))]
 '''
 
+MOVES = r'''
+from supermoves.alike import are_alike, carried, how_many_alike, least_alike, order_to
+from supermoves.moves import after, behind, can_go, goes_back, is_possible, possible_moves
+small, table = (3, 2, "other"), ([[(3, 0), (2, 1)], [(3, 1)], []], [(2, 0), None], [1, 1])
+possible_moves(small, table)[:4]
+# [(("cell", 0), ("cell", 1)), (("cell", 0), ("column", 1)), (("cell", 0), ("column", 2)), (("cell", 0), ("home", 0))]
+[len(possible_moves(small, table)), is_possible(small, table, (("column", 1), ("column", 0))), behind(small, table, (("cell", 0), ("column", 1)))]
+# [9, False, ([[(3, 0), (2, 1)], [(3, 1), (2, 0)], []], [None, None], [1, 1])]
+[goes_back(small, table, (("column", 0), ("column", 2))), goes_back(small, table, (("column", 0), ("home", 1)))]
+# [True, False]
+game = [(("column", 0), ("home", 1)), (("cell", 0), ("home", 0))]
+[can_go(small, table, game), can_go(small, table, game + game), after(small, table, game)]
+# [True, False, ([[(3, 0)], [(3, 1)], []], [None, None], [2, 2])]
+other = ([[], [(3, 1)], [(3, 0), (2, 1)]], [None, (2, 0)], [1, 1])
+[are_alike(small, table, other), least_alike(small, other), how_many_alike(small, table), order_to(small, table, other), carried(small, table, other, (("column", 0), ("column", 2)))]
+# [True, ([[], [(3, 0), (2, 1)], [(3, 1)]], [(2, 0), None], [1, 1]), 12, ([2, 1, 0], [1, 0]), (("column", 2), ("column", 0))]
+order_to(small, table, ([[], [(3, 0), (2, 1)], [(3, 1)]], [None, (2, 0)], [1, 1]))
+# ([2, 0, 1], [1, 0])
+'''
+
+CAPACITY = r'''
+from supermoves.bars import fewest_tops, greatest_with, how_many_lots, needed_tops, tops_to_add
+from supermoves.capacity import barring, bound, can_pass, first_bar, greatest, is_bar, least_cells, least_empty, trades
+[bound("over", (4, 2, [])), bound("into", (4, 2, [])), greatest("whole", (1, 1, [3, 5])), greatest("over", (0, 1, [3])), can_pass("over", (0, 0, [1, 3]), 4)]
+# [20, 10, 9, 2, False]
+[barring("over", (0, 1, [3, 8]), 12), first_bar("whole", (1, 1, [4, 8]), 12), is_bar("over", (0, 1, [3]), 6, (3, 6))]
+# [[(0, 3), (3, 8), (8, 12)], None, True]
+[least_cells("over", 1, [], 8), least_cells("into", 0, [], 1), least_empty("over", 4, [], 21), trades("over", [], 8), trades("into", [2, 4], 6)]
+# [3, None, 3, [(0, 3), (1, 2), (3, 1), (7, 0)], [(0, 2), (1, 1)]]
+[needed_tops("into", (0, 1, [1, 2]), 3), fewest_tops("over", (0, 1, [1, 2, 3, 4, 5, 6, 9]), 7), how_many_lots("over", (0, 1, [1, 2, 3, 4, 5, 6, 9]), 7)]
+# [[1, 2], [1, 3, 5], 42]
+[tops_to_add("over", (1, 1, [5]), 12), greatest_with("over", (1, 1, [5]), 0), greatest_with("over", (1, 1, [5]), 2)]
+# [[1, 8], 4, 13]
+'''
+
 
 class Examples(unittest.TestCase):
     def test_behind_7(self):
         play_examples(self, TEXTS)
+
+    def test_behind_12(self):
+        play_examples(self, MOVES)
+
+    def test_behind_17(self):
+        play_examples(self, CAPACITY)

@@ -17,6 +17,16 @@ FUNCTIONS = {
     "texts": "text_of_card(rules, card); card_of_text(rules, text); text_of_position(rules, position); "
              "position_of_text(rules, text); text_of_move(rules, position, move); "
              "move_of_text(rules, position, text)",
+    "moves": "possible_moves(rules, position); is_possible(rules, position, value); behind(rules, position, move); "
+             "goes_back(rules, position, move); can_go(rules, position, value); after(rules, position, game)",
+    "alike": "are_alike(rules, position, other); least_alike(rules, position); how_many_alike(rules, position); "
+             "order_to(rules, position, other); carried(rules, position, other, move)",
+    "capacity": "bound(kind, room); can_pass(kind, room, many); greatest(kind, room); barring(kind, room, many); "
+                "first_bar(kind, room, many); is_bar(kind, room, many, value); "
+                "least_cells(kind, empty, tops, many); least_empty(kind, cells, tops, many); "
+                "trades(kind, tops, many)",
+    "bars": "needed_tops(kind, room, many); fewest_tops(kind, room, many); how_many_lots(kind, room, many); "
+            "tops_to_add(kind, room, many); greatest_with(kind, room, further)",
 }
 
 
