@@ -50,7 +50,7 @@ def order_of(things, others):
     left = list(range(len(things)))
     numbers = []
     for other in others:
-        number = [at for at in left if things[at] == other][0]
+        number = min([at for at in left if things[at] == other])
         left.remove(number)
         numbers.append(number)
     return numbers
