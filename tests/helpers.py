@@ -1,12 +1,14 @@
 """What the tests share: values of all sorts, slight changes of them, and calls that are watched."""
 
 import copy
+import functools
 import random
 
 from supermoves.errors import InvalidNumber, Stuck
 
 BUILDS = ["other", "same", "any"]
 KINDS = ["over", "into", "whole"]
+PLACES = ["cell", "column", "goal", "next", "top"]
 
 
 def deep(many):
@@ -202,6 +204,87 @@ def places_in(position):
     return ([("cell", number) for number in range(len(cells))]
             + [("column", number) for number in range(len(columns))]
             + [("home", number) for number in range(len(homes))])
+
+
+def begin_of(many):
+    return ("next",) * (many - 1) + ("base",)
+
+
+def end_of(many):
+    return ("next",) * (many - 1) + ("goal",)
+
+
+def is_right_standing(kind, room, standing):
+    """As [29] tells it, of a tuple of strings that are places."""
+    cells, empty, tops = room
+    many = len(standing)
+    if standing[-1] in ("next", "top") or set(standing[:-1]) & {"base", "goal"}:
+        return False
+    for at in range(many - 1):
+        if standing[at] == "next" and standing[at + 1] == "cell" or standing[at] == "top" and at + 1 not in tops:
+            return False
+    taken = standing.count("column") + (kind == "into" and standing[-1] == "goal")
+    free = empty + (kind == "whole" and standing[-1] != "base")
+    return standing.count("cell") <= cells and taken <= free
+
+
+def plain_steps(kind, room, standing):
+    """As [30] tells it: tuples of each possible step and of the standing behind it, a tuple like the one given."""
+    found = []
+    for at in range(len(standing)):
+        if at > 0 and standing[at - 1] == "next" or standing[at] == "goal":
+            continue
+        for place in PLACES:
+            behind = standing[:at] + (place,) + standing[at + 1:]
+            if place != standing[at] and is_right_standing(kind, room, behind):
+                found.append(((at + 1, place), behind))
+    return found
+
+
+def plain_standings(kind, room, many, plan):
+    """As [31] tells it: the standings of a list of steps, tuples, None if it is no plan."""
+    told = [begin_of(many)]
+    for step in plan:
+        behind = dict(plain_steps(kind, room, told[-1])).get(step)
+        if behind is None:
+            return None
+        told.append(behind)
+    return told
+
+
+def plain_search(kind, room, standing):
+    """The shortest list of steps from a standing to the end, None if there is none, and how many are so short."""
+    end = end_of(len(standing))
+    layer, ways = {standing: 1}, {standing: []}
+    while layer and end not in layer:
+        behind_all = {}
+        for here, many in layer.items():
+            for step, behind in plain_steps(kind, room, here):
+                if behind not in ways:
+                    ways[behind] = ways[here] + [step]
+                    behind_all[behind] = many
+                elif behind in behind_all:
+                    behind_all[behind] += many
+        layer = behind_all
+    return ways.get(end), layer.get(end, 0)
+
+
+@functools.lru_cache(maxsize=None)
+def searched(kind, cells, empty, tops, many):
+    """The fewest steps, None if there is no right plan, and how many plans have so few, by going through standings."""
+    way, number = plain_search(kind, (cells, empty, tops), begin_of(many))
+    return None if way is None else len(way), number
+
+
+def searched_fewest(kind, room, many):
+    """The fewest steps of a run in a room, None if there is no right plan, by going through standings."""
+    return searched(kind, room[0], room[1], tuple(room[2]), many)[0]
+
+
+def any_room(chance, most_cells, most_empty, many, share):
+    """Any room with about such a share of the tops that a run of so many cards, and one card more, can have."""
+    tops = [top for top in range(1, many + 2) if chance.random() < share]
+    return (chance.randint(0, most_cells), chance.randint(0, most_empty), tops)
 
 
 def play_examples(test, text):

@@ -8,7 +8,7 @@ import unittest
 from supermoves.capacity import (barring, bound, can_pass, first_bar, greatest, is_bar, least_cells, least_empty,
                                  trades)
 from supermoves.errors import InvalidKind, InvalidNumber, InvalidRoom
-from tests.helpers import KINDS, changes, junk, not_counts, not_numbers, refuses, same, watched
+from tests.helpers import KINDS, changes, junk, not_counts, not_numbers, refuses, same, searched_fewest, watched
 from tests.test_positions import plainly_room
 
 GREAT = 10 ** 30 - 1
@@ -52,37 +52,6 @@ def plainly_goes(kind, room, many):
     return all(high - low <= most for low, high in plain_stretches(room[2], many))
 
 
-def is_right_standing(kind, room, standing):
-    """As [29] tells it."""
-    cells, empty, tops = room
-    many = len(standing)
-    if standing[-1] in ("next", "top"):
-        return False
-    for at in range(many - 1):
-        if standing[at] == "next" and standing[at + 1] == "cell" or standing[at] == "top" and at + 1 not in tops:
-            return False
-    taken = standing.count("column") + (kind == "into" and standing[-1] == "goal")
-    free = empty + (kind == "whole" and standing[-1] != "base")
-    return standing.count("cell") <= cells and taken <= free
-
-
-def goes_by_plans(kind, room, many):
-    """Whether there is a right plan, as [29] to [31] tell it, by going through all standings that come."""
-    begin = ("next",) * (many - 1) + ("base",)
-    seen, left = {begin}, [begin]
-    while left:
-        standing = left.pop()
-        for at in range(many):
-            if at > 0 and standing[at - 1] == "next" or at == many - 1 and standing[at] == "goal":
-                continue
-            for place in ["next", "cell", "column", "top"] if at < many - 1 else ["cell", "column", "goal"]:
-                then = standing[:at] + (place,) + standing[at + 1:]
-                if place != standing[at] and then not in seen and is_right_standing(kind, room, then):
-                    seen.add(then)
-                    left.append(then)
-    return ("next",) * (many - 1) + ("goal",) in seen
-
-
 class Bounds(unittest.TestCase):
     def test_bounds(self):
         for kind in KINDS:
@@ -113,7 +82,7 @@ class Bounds(unittest.TestCase):
                 for lot in range(16):
                     room = (cells, empty, [top for top in range(1, 5) if lot >> top - 1 & 1])
                     for many in range(1, 7 if cells + empty < 2 else 6):
-                        wanted = goes_by_plans(kind, room, many)
+                        wanted = searched_fewest(kind, room, many) is not None
                         self.assertIs(can_pass(kind, room, many), wanted, f"{kind} {room} {many}")
 
     def test_greatest(self):

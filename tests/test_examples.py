@@ -63,6 +63,38 @@ from supermoves.capacity import barring, bound, can_pass, first_bar, greatest, i
 # [[1, 8], 4, 13]
 '''
 
+PRICES = r'''
+from supermoves.doubling import same_prices, cheaper_from, dearest, doubling, saved, whole_cost
+from supermoves.prices import fewest, longest_within, price_of, prices
+[prices("over", 4, 2), prices("into", 1, 3), prices("whole", 1, 2), prices("over", 10 ** 29, 1)]
+# [[(1, 1), (2, 6), (4, 9), (8, 4)], [(1, 1), (2, 3), (4, 3), (6, 1)], [(1, 1), (2, 3), (4, 3), (6, 1)], [(1, 1), (2, 100000000000000000000000000001), (4, 100000000000000000000000000000)]]
+[fewest("over", 4, 2, 20), fewest("over", 4, 2, 21), fewest("into", 1, 3, 8), fewest("whole", 1, 2, 8), fewest("over", 10 ** 28, 5, 10 ** 29)]
+# [81, None, 25, 25, 539999999999999999999999999923]
+[price_of("over", 4, 2, 17), price_of("over", 4, 2, 21), longest_within("over", 4, 2, 50), longest_within("into", 0, 1, 0)]
+# [8, None, 16, 0]
+[doubling("into", 1, 3), cheaper_from("into", 1, 3), saved("into", 1, 3, 8), cheaper_from("over", 4, 2), cheaper_from("over", 1, 3), saved("over", 1, 3, 17)]
+# [[(1, 1), (2, 3), (4, 3), (8, 1)], 8, 2, None, 16, None]
+[same_prices("over", 1, 3, "over", 0, 4), same_prices("whole", 4, 2, "into", 4, 3), same_prices("over", 2, 1, "over", 1, 2), whole_cost("over", 4, 2), dearest("into", 1, 3)]
+# [True, True, False, (20, 81), 6]
+'''
+
+TOPS = r'''
+from supermoves.helped import best_top, cost_of_parting, first_parting, how_many_partings, is_least_parting, tops_within
+from supermoves.tops import fewest_with
+[fewest_with("over", (1, 0, [2]), 3), fewest_with("into", (1, 1, [2, 4]), 6), fewest_with("over", (1, 1, [4]), 8), fewest_with("over", (0, 0, [1, 2, 3, 4]), 5), fewest_with("over", (0, 0, [1, 3]), 4)]
+# [5, 15, 27, 9, None]
+[fewest_with("whole", (1, 1, [3]), 6), fewest_with("into", (1, 2, [3]), 6), fewest_with("over", (0, 0, [9]), 1)]
+# [15, 15, 1]
+[fewest_with("into", (0, 1, [2]), 3), fewest_with("whole", (1, 1, [4]), 7), cost_of_parting("over", (2, 0, []), 3, [("cell", 1, 2)]), cost_of_parting("into", (3, 0, []), 1, []), cost_of_parting("over", (0, 2, [1]), 4, [("column", 1, 3)])]
+# [None, 21, None, None, 11]
+[first_parting("over", (1, 0, [2]), 3), cost_of_parting("over", (1, 0, [2]), 3, [("top", 1, 2)]), cost_of_parting("over", (1, 0, [2]), 3, [("column", 1, 2)]), how_many_partings("over", (1, 0, [2]), 3)]
+# [[("cell", 1, 1), ("top", 2, 2)], 7, None, 1]
+[is_least_parting("over", (1, 0, [2]), 3, [("cell", 1, 1), ("top", 2, 2)]), is_least_parting("over", (0, 0, []), 1, [])]
+# [True, True]
+[best_top("over", (0, 0, [1, 3]), 4), best_top("over", (1, 1, []), 8), best_top("over", (3, 0, []), 4), tops_within("over", (1, 0, []), 4, 9), tops_within("over", (1, 0, []), 4, 7), tops_within("over", (1, 0, []), 4, 6)]
+# [(2, 7), (4, 27), None, [2], [1, 2], None]
+'''
+
 
 class Examples(unittest.TestCase):
     def test_behind_7(self):
@@ -73,3 +105,9 @@ class Examples(unittest.TestCase):
 
     def test_behind_17(self):
         play_examples(self, CAPACITY)
+
+    def test_behind_23(self):
+        play_examples(self, PRICES)
+
+    def test_behind_28(self):
+        play_examples(self, TOPS)

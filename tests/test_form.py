@@ -10,7 +10,8 @@ import warnings
 ROOT = pathlib.Path(__file__).resolve().parent.parent / "supermoves"
 FILES = sorted(ROOT.glob("*.py"))
 
-LIBRARY = {"math": {"gcd", "lcm", "isqrt", "comb", "perm", "factorial"}}
+LIBRARY = {"math": {"gcd", "lcm", "isqrt", "comb", "perm", "factorial"},
+           "itertools": {"product", "combinations", "permutations"}}
 BUILTINS = set("""len range enumerate zip min max sum abs sorted reversed int str bool list tuple dict set isinstance
 ord repr any all divmod ValueError KeyError""".split())
 METHODS = set("""append clear copy count endswith extend find get index insert isalnum isalpha isdigit islower isspace
@@ -124,7 +125,10 @@ class Form(unittest.TestCase):
             self.assertLessEqual(imported, used, f"{file}: imported and not used")
 
     def test_methods_of_plain_values(self):
+        classes = [node for tree in trees().values() for node in ast.walk(tree) if isinstance(node, ast.ClassDef)]
+        own = {row.name for node in classes for row in node.body if isinstance(row, ast.FunctionDef)}
+        self.assertFalse(own & METHODS)
         for file, tree in trees().items():
             for node in ast.walk(tree):
                 if isinstance(node, ast.Call) and isinstance(node.func, ast.Attribute):
-                    self.assertIn(node.func.attr, METHODS, f"{file}:{node.lineno}")
+                    self.assertIn(node.func.attr, METHODS | own, f"{file}:{node.lineno}")

@@ -27,6 +27,15 @@ FUNCTIONS = {
                 "trades(kind, tops, many)",
     "bars": "needed_tops(kind, room, many); fewest_tops(kind, room, many); how_many_lots(kind, room, many); "
             "tops_to_add(kind, room, many); greatest_with(kind, room, further)",
+    "prices": "prices(kind, cells, empty); fewest(kind, cells, empty, many); price_of(kind, cells, empty, number); "
+              "longest_within(kind, cells, empty, steps)",
+    "doubling": "same_prices(kind, cells, empty, other_kind, other_cells, other_empty); "
+                "doubling(kind, cells, empty); cheaper_from(kind, cells, empty); saved(kind, cells, empty, many); "
+                "whole_cost(kind, cells, empty); dearest(kind, cells, empty)",
+    "tops": "fewest_with(kind, room, many)",
+    "helped": "cost_of_parting(kind, room, many, parting); first_parting(kind, room, many); "
+              "is_least_parting(kind, room, many, value); how_many_partings(kind, room, many); "
+              "best_top(kind, room, many); tops_within(kind, room, many, most)",
 }
 
 
