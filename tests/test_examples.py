@@ -95,6 +95,46 @@ from supermoves.tops import fewest_with
 # [(2, 7), (4, 27), None, [2], [1, 2], None]
 '''
 
+PLANS = r'''
+from supermoves.bends import how_many_shortest, parked, shortened, turned_about
+from supermoves.plans import behind_step, is_plan, is_right, is_shortest, is_standing, possible_steps, shortest_plan, standings, start_of
+room = (1, 0, [2])
+five = [(1, "cell"), (2, "top"), (3, "goal"), (2, "next"), (1, "next")]
+[start_of(3), possible_steps("over", room, start_of(3)), behind_step("over", room, start_of(3), (1, "cell")), possible_steps("over", room, ["cell", "top", "base"])]
+# [["next", "next", "base"], [(1, "cell")], ["cell", "next", "base"], [(1, "next"), (2, "next"), (3, "goal")]]
+[is_right("over", room, 3, five), is_shortest("over", room, 3, five), is_right("over", (1, 0, []), 3, five), is_plan("over", room, 3, five[:2]), len(shortest_plan("over", room, 3)), shortest_plan("over", (1, 0, []), 3)]
+# [True, True, False, True, 5, None]
+[parked("over", room, 3, five), turned_about("over", room, 3, five), standings("over", room, 3, five[:1])]
+# [[(1, 1, "cell"), (2, 2, "top")], ("over", (1, 0, [2]), [(1, "cell"), (2, "top"), (3, "goal"), (2, "next"), (1, "next")]), [["next", "next", "base"], ["cell", "next", "base"]]]
+two = [(1, "cell"), (2, "goal"), (1, "next")]
+[turned_about("whole", (1, 0, []), 2, two), shortened("over", room, 3, [(1, "cell"), (1, "next")] + five), how_many_shortest("over", room, 3), how_many_shortest("over", (2, 0, []), 3)]
+# [("into", (1, 1, []), [(1, "cell"), (2, "goal"), (1, "next")]), [(1, "cell"), (2, "top"), (3, "goal"), (2, "next"), (1, "next")], 1, 1]
+[is_standing("into", (0, 1, []), 2, ["column", "goal"]), is_standing("whole", (0, 0, []), 2, ["column", "goal"]), is_standing("over", (1, 0, []), 2, ["next", "cell"])]
+# [False, True, False]
+'''
+
+ROOMS = r'''
+from supermoves.going import behind_supermove, goals_of, is_played, played
+from supermoves.rooms import all_supermoves, back_of, fewest_moves, is_sensible, lacking, room_of, spoilers
+rules = (4, 2, "other")
+position = ([[(4, 0), (3, 1), (2, 0), (1, 1)], [(4, 1), (3, 0)], [], [(2, 1)]], [None, (1, 0)], [0, 0])
+[is_sensible(rules, position, (0, 1, 1)), room_of(rules, position, (0, 2, 3)), room_of(rules, position, (3, 1, 1)), fewest_moves(rules, position, (0, 2, 2)), fewest_moves(rules, position, (0, 2, 3))]
+# [False, ("into", (1, 1, [])), ("whole", (1, 1, [])), 3, None]
+[all_supermoves(rules, position), goals_of(rules, position, 0, 1), lacking(rules, position, (0, 2, 3)), spoilers(rules, position, (0, 2, 2))]
+# [[((0, 2, 1), 1), ((0, 2, 2), 3), ((1, 2, 1), 1), ((3, 1, 1), 1)], [(1, 2)], (1, 1), [("cell", 0)]]
+[behind_supermove(rules, position, (3, 1, 1))[0][1], back_of(rules, position, (3, 1, 1)), back_of(rules, position, (1, 2, 1))]
+# [[(4, 1), (3, 0), (2, 1)], (1, 3, 1), (2, 1, 1)]
+game = played(rules, position, (0, 2, 2))
+[is_played(rules, position, (0, 2, 2), game), game]
+# [True, [(("column", 0), ("cell", 0)), (("column", 0), ("column", 2)), (("cell", 0), ("column", 2))]]
+four, held = (4, 4, "other"), ([[(3, 1), (3, 0), (2, 1)], [(4, 0), (4, 1)], [(4, 2), (3, 2)]], [], [2, 1, 2, 4])
+[room_of(four, held, (0, 1, 2)), fewest_moves(four, held, (0, 1, 2)), spoilers(four, held, (0, 1, 2)), lacking(four, held, (0, 1, 2))]
+# [("over", (0, 0, [1])), 3, [("column", 2)], (0, 0)]
+tall = (9, 1, "same")
+[fewest_moves(tall, ([[(8, 0), (7, 0), (6, 0), (5, 0), (4, 0), (3, 0), (2, 0), (1, 0)], [(9, 0)], [], []], [None], [0]), (0, 1, 8))]
+# [25]
+'''
+
 
 class Examples(unittest.TestCase):
     def test_behind_7(self):
@@ -111,3 +151,9 @@ class Examples(unittest.TestCase):
 
     def test_behind_28(self):
         play_examples(self, TOPS)
+
+    def test_behind_35(self):
+        play_examples(self, PLANS)
+
+    def test_behind_41(self):
+        play_examples(self, ROOMS)

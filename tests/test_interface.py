@@ -36,6 +36,18 @@ FUNCTIONS = {
     "helped": "cost_of_parting(kind, room, many, parting); first_parting(kind, room, many); "
               "is_least_parting(kind, room, many, value); how_many_partings(kind, room, many); "
               "best_top(kind, room, many); tops_within(kind, room, many, most)",
+    "plans": "start_of(many); is_standing(kind, room, many, value); possible_steps(kind, room, standing); "
+             "behind_step(kind, room, standing, step); is_plan(kind, room, many, value); "
+             "is_right(kind, room, many, value); standings(kind, room, many, plan); shortest_plan(kind, room, many); "
+             "is_shortest(kind, room, many, value)",
+    "bends": "parked(kind, room, many, plan); turned_about(kind, room, many, plan); "
+             "shortened(kind, room, many, plan); how_many_shortest(kind, room, many)",
+    "rooms": "is_sensible(rules, position, supermove); room_of(rules, position, supermove); "
+             "fewest_moves(rules, position, supermove); all_supermoves(rules, position); "
+             "lacking(rules, position, supermove); spoilers(rules, position, supermove); "
+             "back_of(rules, position, supermove)",
+    "going": "played(rules, position, supermove); is_played(rules, position, supermove, value); "
+             "behind_supermove(rules, position, supermove); goals_of(rules, position, start, many)",
 }
 
 
