@@ -41,11 +41,16 @@ def moves_from(rules, position, start):
     return [(start, goal) for goal in places_of(position) if takes_card(rules, position, goal, card)]
 
 
+def moves_in(rules, position):
+    """The list of all possible moves of a known position, in order."""
+    starts = [place for place in places_of(position) if place[0] != "home"]
+    return [move for start in starts for move in moves_from(rules, position, start)]
+
+
 def possible_moves(rules, position):
     """The list of all possible moves, in order."""
     check_position(rules, position)
-    starts = [place for place in places_of(position) if place[0] != "home"]
-    return [move for start in starts for move in moves_from(rules, position, start)]
+    return moves_in(rules, position)
 
 
 def is_possible(rules, position, value):
@@ -97,12 +102,17 @@ def behind(rules, position, move):
     return position_behind(position, move)
 
 
+def can_return(rules, position, move):
+    """Whether behind a possible move of a known position the one with start and goal exchanged is possible."""
+    start, goal = move
+    return can_move(rules, position_behind(position, move), (goal, start))
+
+
 def goes_back(rules, position, move):
     """Whether behind a possible move the move with start and goal exchanged is possible."""
     check_position(rules, position)
     check_possible(rules, position, move)
-    start, goal = move
-    return can_move(rules, position_behind(position, move), (goal, start))
+    return can_return(rules, position, move)
 
 
 def position_after(rules, position, value):
