@@ -57,11 +57,16 @@ def game_of(rules, position, supermove, plan):
     return game
 
 
+def fewest_game(costs, rules, position, supermove):
+    """A game of the fewest single moves that does a supermove of a known position which can be done."""
+    kind, room = room_beside(rules, position, supermove)
+    return game_of(rules, position, supermove, least_plan(costs, kind, room, supermove[2]))
+
+
 def played(rules, position, supermove):
     """Any game of the fewest single moves that does a supermove."""
     check_doable(rules, position, supermove)
-    kind, room = room_beside(rules, position, supermove)
-    return game_of(rules, position, supermove, least_plan(Costs(), kind, room, supermove[2]))
+    return fewest_game(Costs(), rules, position, supermove)
 
 
 def moved_over(position, supermove):

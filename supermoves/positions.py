@@ -179,10 +179,8 @@ def dealt(rules, cards, columns, cells):
     return ([cards[number::columns] for number in range(columns)], [None] * cells, [0] * rules[1])
 
 
-def place_of(rules, position, card):
-    """The place where a card stands."""
-    check_position(rules, position)
-    check_card(rules, card)
+def spot_of(position, card):
+    """The place where a card stands in a position, both known to be what they are."""
     columns, cells, _ = position
     for number, column in enumerate(columns):
         if card in column:
@@ -190,6 +188,13 @@ def place_of(rules, position, card):
     if card in cells:
         return ("cell", cells.index(card))
     return ("home", card[1])
+
+
+def place_of(rules, position, card):
+    """The place where a card stands."""
+    check_position(rules, position)
+    check_card(rules, card)
+    return spot_of(position, card)
 
 
 def card_from(position, place):

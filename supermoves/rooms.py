@@ -122,11 +122,23 @@ def lacking(rules, position, supermove):
     return (max(0, more_cells), max(0, more_columns))
 
 
+def goes_over(rules, position, supermove):
+    """Whether a sensible supermove of a known position can be done."""
+    kind, room = room_beside(rules, position, supermove)
+    return passes(kind, room, supermove[2])
+
+
+def can_be_done(rules, position, value):
+    """Whether a value is a sensible supermove of a known position that can be done."""
+    if not fits_supermove(rules, position, value) or not makes_sense(rules, position, value):
+        return False
+    return goes_over(rules, position, value)
+
+
 def check_doable(rules, position, supermove):
     """Refuse what is no sensible supermove, then one that can not be done."""
     check_sensible(rules, position, supermove)
-    kind, room = room_beside(rules, position, supermove)
-    if not passes(kind, room, supermove[2]):
+    if not goes_over(rules, position, supermove):
         raise Stuck(supermove)
 
 

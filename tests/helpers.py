@@ -5,6 +5,7 @@ import functools
 import random
 
 from supermoves.errors import InvalidNumber, Stuck
+from supermoves.live import LiveTable
 
 BUILDS = ["other", "same", "any"]
 KINDS = ["over", "into", "whole"]
@@ -20,10 +21,12 @@ def deep(many):
 
 def junk():
     """Values of all sorts, none of which is rules, a card, a position, a place, a move, a game or a room."""
+    live = LiveTable((1, 1, "any"), ([[]], [], [1]))
     return [
         None, True, False, 0, 1, -1, 10 ** 29, "", "x", "over ", "column", "\t\n", (), {}, (1,), (1, 2, 3, 4),
         {"over": 1}, {1: (1, 0)}, [None], ["over"], ("over",), (None, None), (None, None, None), ([], [], []),
         ((), (), ()), deep(30), (deep(28), "x"), InvalidNumber(3), [InvalidNumber], Stuck(),
+        live, [live], (live, live), (live, live, live),
     ]
 
 

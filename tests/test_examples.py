@@ -135,6 +135,97 @@ tall = (9, 1, "same")
 # [25]
 '''
 
+WORTH = r'''
+from supermoves.exchange import cheapest_room, least_rooms
+from supermoves.worth import idle, last_card, losses, needed, saves, with_more
+[with_more((1, 0, [2]), "column"), with_more((1, 0, [2]), 4), with_more((1, 0, [2]), 2), saves("over", (1, 1, []), 4, "cell"), saves("over", (1, 0, []), 3, 2), saves("into", (0, 1, []), 2, "cell")]
+# [(1, 1, [2]), (1, 0, [2, 4]), (1, 0, [2]), (9, 7), (None, 5), (None, 3)]
+[last_card("over", (1, 1, []), 4), last_card("over", (1, 1, []), 5), [last_card("into", (1, 3, []), many) for many in [7, 8]]]
+# [4, None, [4, 6]]
+[losses("over", (1, 1, [2]), 4), idle("over", (2, 1, [3]), 3), needed("over", (1, 0, [2]), 3)]
+# [[("cell", 9), ("column", 9), (2, 9)], ["cell", "column"], ["cell", 2]]
+[least_rooms("over", [], 4, None), least_rooms("over", [], 4, 7), least_rooms("into", [], 2, None), least_rooms("over", [], 4, 6), cheapest_room("over", [], 4, None, 2, 3)]
+# [[(0, 2), (1, 1), (3, 0)], [(0, 3), (1, 2), (2, 1), (3, 0)], [(0, 2), (1, 1)], [], (5, 1, 1)]
+'''
+
+SEARCH = r'''
+from supermoves.positions import dealt
+from supermoves.search import by_distance, closed_set, deepest, game_between, good_moves, how_many_come, is_closed_set, is_lost, is_shortest_game, least_moves, losing_moves, lost_game, moves_between, shortest_game, won_and_lost
+two, table = (4, 2, "other"), ([[(4, 0), (1, 0), (1, 1), (3, 1)], [(2, 0), (3, 0), (2, 1), (4, 1)]], [None], [0, 0])
+[how_many_come(two, table), by_distance(two, table), least_moves(two, table), won_and_lost(two, table), deepest(two, table)]
+# [19, [1, 2, 1, 1, 1, 1, 1, 1, 1, 2, 2, 3, 2], 12, (18, 1), 12]
+[good_moves(two, table), losing_moves(two, table), lost_game(two, table), is_lost(two, table), closed_set(two, table)]
+# [[(("column", 0), ("cell", 0))], [(("column", 1), ("cell", 0))], [(("column", 1), ("cell", 0))], False, None]
+[is_shortest_game(two, table, shortest_game(two, table)), is_shortest_game(two, table, []), len(game_between(two, table, ([[], []], [None], [4, 4])))]
+# [True, False, 12]
+one, stuck = (3, 1, "same"), ([[(1, 0), (3, 0)], [(2, 0)]], [], [0])
+[least_moves(one, stuck), shortest_game(one, stuck), how_many_come(one, stuck), is_lost(one, stuck), lost_game(one, stuck)]
+# [None, None, 2, True, []]
+[is_closed_set(one, stuck, [([[(1, 0), (3, 0), (2, 0)], []], [], [0]), ([[(2, 0)], [(1, 0), (3, 0)]], [], [0])]), is_closed_set(one, stuck, [stuck]), is_closed_set(one, stuck, closed_set(one, stuck))]
+# [True, False, True]
+[moves_between(one, stuck, ([[(1, 0), (3, 0), (2, 0)], []], [], [0])), moves_between(one, stuck, ([[], []], [], [3])), game_between(one, stuck, stuck)]
+# [1, None, []]
+'''
+
+HOMES = r'''
+from supermoves.homes import harmless, is_why_not, needs_no_place, why_not
+from supermoves.sent import harm_of, how_many_orders, is_sendings, sendings, sent_home
+small, table = (3, 2, "other"), ([[(3, 0), (2, 1)], [(3, 1), (1, 1), (2, 0)]], [], [1, 0])
+[harmless(small, table), needs_no_place(small, table, (2, 1)), why_not(small, table, (3, 0)), why_not(small, table, (2, 0)), sendings(small, table), how_many_orders(small, table)]
+# [[(2, 0)], False, [(3, 0)], None, [(2, 0), (1, 1), (2, 1), (3, 0), (3, 1)], 2]
+[sent_home(small, table), is_sendings(small, table, [(2, 0), (1, 1), (2, 1), (3, 1), (3, 0)]), is_sendings(small, table, [(2, 0)])]
+# [([[], []], [], [3, 3]), True, False]
+rules, lost = (5, 3, "other"), ([[(3, 1), (4, 1)], [(5, 1), (5, 0)]], [], [4, 2, 5])
+[harmless(rules, lost), needs_no_place(rules, lost, (5, 0)), why_not(rules, lost, (5, 0)), is_why_not(rules, lost, (5, 0), [(5, 0), (4, 1)]), harm_of(rules, lost, (5, 0))]
+# [[], False, [(5, 0), (4, 1)], True, None]
+'''
+
+GAMES = r'''
+from supermoves.folded import after_long, folded, is_folded, supermove_of, text_of_long, unfolded
+from supermoves.games import by_cards, by_places, game_of_text, is_shortcut, last_for_good, shortcut, text_of_game, way_back
+rules, table = (3, 2, "any"), ([[(3, 0), (2, 1), (1, 0)], [(3, 1)], [(2, 0)], []], [None], [0, 1])
+over = [(("column", 0), ("cell", 0)), (("column", 0), ("column", 1)), (("cell", 0), ("column", 1))]
+[text_of_game(rules, table, over), game_of_text(rules, table, "1a 12 a2") == over, last_for_good(rules, table, over)]
+# ["1a 12 a2", True, None]
+way_back(rules, table, over)
+# [(("column", 1), ("cell", 0)), (("column", 1), ("column", 0)), (("cell", 0), ("column", 0))]
+detour = [(("column", 2), ("cell", 0)), (("cell", 0), ("column", 3)), (("column", 3), ("column", 1))]
+[shortcut(rules, table, detour), is_shortcut(rules, table, detour, detour)]
+# [[(("column", 2), ("column", 1))], False]
+[by_cards(rules, table, over), by_places(rules, table, by_cards(rules, table, over)) == over]
+# [[((1, 0), ("cell", 0)), ((2, 1), ("column", 1)), ((1, 0), ("column", 1))], True]
+[supermove_of(rules, table, over), supermove_of(rules, table, over[:2]), folded(rules, table, over), is_folded(rules, table, over, over), text_of_long(rules, table, [(0, 1, 2), (("column", 2), ("cell", 0))])]
+# [(0, 1, 2), None, [(0, 1, 2)], False, "12x2 3a"]
+[after_long(rules, table, [(0, 1, 2)]), len(unfolded(rules, table, [(0, 1, 2)]))]
+# [([[(3, 0)], [(3, 1), (2, 1), (1, 0)], [(2, 0)], []], [None], [0, 1]), 3]
+'''
+
+PIECES = r'''
+from supermoves.pieces import cells_for, cells_within, cost_line, how_many_at, mean_price, rows_hold, rows_of, steps_by_rows
+[rows_of("over", 2), rows_of("into", 3), rows_of("whole", 2), rows_of("over", 0)]
+# [(0, [(1, 1, 0), (2, 2, 1), (4, 1, 2), (8, 0, 1)]), (1, [(1, 1, 0), (2, 2, 1), (4, 1, 2), (6, 1, 0), (8, -1, 1)]), (1, [(1, 1, 0), (2, 2, 1), (4, 1, 2), (6, 1, 0), (8, -1, 1)]), (0, [(1, 1, 0), (2, 0, 1)])]
+[rows_hold("into", 3, 0), rows_hold("into", 3, 10 ** 29), steps_by_rows("over", 2, 4, 20), steps_by_rows("into", 3, 0, 2), rows_of("into", 7)[0]]
+# [False, True, 81, None, 12]
+[cost_line("over", 2), cost_line("into", 3), mean_price("over", 2), mean_price("into", 3), how_many_at("into", 3, 8), how_many_at("into", 3, 3)]
+# [(0, 9, 18), (1, 7, 18), (9, 2), (9, 2), (-1, 1), (0, 0)]
+[cells_for("over", 2, 20), cells_for("into", 1, 7), cells_for("over", 3, 1), cells_within("over", 2, 20, 81), cells_within("over", 2, 20, 80), cells_within("over", 2, 20, 38), cells_within("over", 0, 10 ** 29, 2 * 10 ** 29)]
+# [4, 6, 0, 4, 5, None, 99999999999999999999999999999]
+'''
+
+LIVE = r'''
+from supermoves.live import LiveTable, is_deed
+small = (3, 2, "other")
+live = LiveTable(small, ([[(3, 0), (2, 1)], [(3, 1)], []], [(2, 0), None], [1, 1]))
+[is_deed(live, ("move", (("cell", 0), ("column", 1)))), is_deed(live, ("supermove", (0, 2, 2))), is_deed(live, ("supermove", (1, 2, 1))), is_deed(live, ("read", "1h a2")), is_deed(live, ("read", "2a"))]
+# [True, False, False, True, False]
+live.do(("move", (("cell", 0), ("column", 1))))
+[live.told(), live.hints(), live.singles(), live.game()]
+# ["1: 3C 2D\n2: 3D 2C\n3:\ncells: - -\nhomes: 1 1\n", [(1, (0, 2, 1)), (1, (1, 2, 1))], 1, [(("cell", 0), ("column", 1))]]
+live.do(("home",))
+[live.done(), live.singles(), live.undo(), live.done(), len(live.log()), live == live.copy(), live.redo(), live.position()]
+# [True, 5, None, False, 1, True, None, ([[], [], []], [None, None], [3, 3])]
+'''
+
 
 class Examples(unittest.TestCase):
     def test_behind_7(self):
@@ -157,3 +248,21 @@ class Examples(unittest.TestCase):
 
     def test_behind_41(self):
         play_examples(self, ROOMS)
+
+    def test_behind_46(self):
+        play_examples(self, WORTH)
+
+    def test_behind_64(self):
+        play_examples(self, SEARCH)
+
+    def test_behind_52(self):
+        play_examples(self, HOMES)
+
+    def test_behind_59(self):
+        play_examples(self, GAMES)
+
+    def test_behind_69(self):
+        play_examples(self, PIECES)
+
+    def test_behind_72(self):
+        play_examples(self, LIVE)

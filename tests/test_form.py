@@ -117,9 +117,9 @@ class Form(unittest.TestCase):
             imported = {alias.name for node in imports_of(tree) for alias in node.names}
             own = bound_names(tree)
             for name in own:
-                self.assertTrue(name == "__init__" or not hasattr(builtins, name), f"{file}: {name}")
+                self.assertTrue(name in ("__init__", "__eq__") or not hasattr(builtins, name), f"{file}: {name}")
                 self.assertNotIn(name, imported, f"{file}: {name}")
-                self.assertRegex(name, r"^(_?[A-Za-z][A-Za-z0-9_]*|_|__init__)$")
+                self.assertRegex(name, r"^(_?[A-Za-z][A-Za-z0-9_]*|_|__init__|__eq__)$")
             used = {node.id for node in ast.walk(tree) if isinstance(node, ast.Name)}
             self.assertLessEqual(used & set(dir(builtins)), BUILTINS, file)
             self.assertLessEqual(imported, used, f"{file}: imported and not used")
@@ -127,7 +127,8 @@ class Form(unittest.TestCase):
     def test_methods_of_plain_values(self):
         classes = [node for tree in trees().values() for node in ast.walk(tree) if isinstance(node, ast.ClassDef)]
         own = {row.name for node in classes for row in node.body if isinstance(row, ast.FunctionDef)}
-        self.assertFalse(own & METHODS)
+        # This one is named by the document, and modifies nothing.
+        self.assertLessEqual(own & METHODS, {"copy"})
         for file, tree in trees().items():
             for node in ast.walk(tree):
                 if isinstance(node, ast.Call) and isinstance(node.func, ast.Attribute):

@@ -2,6 +2,7 @@
 
 import importlib
 import inspect
+import pathlib
 import unittest
 
 ERRORS = ["MoveError", "InvalidNumber", "InvalidRules", "InvalidCard", "InvalidPosition", "InvalidPlace",
@@ -48,7 +49,37 @@ FUNCTIONS = {
              "back_of(rules, position, supermove)",
     "going": "played(rules, position, supermove); is_played(rules, position, supermove, value); "
              "behind_supermove(rules, position, supermove); goals_of(rules, position, start, many)",
+    "worth": "with_more(room, more); saves(kind, room, many, more); last_card(kind, room, many); "
+             "losses(kind, room, many); idle(kind, room, many); needed(kind, room, many)",
+    "exchange": "least_rooms(kind, tops, many, bound); "
+                "cheapest_room(kind, tops, many, bound, cell_price, column_price)",
+    "homes": "needs_no_place(rules, position, card); harmless(rules, position); why_not(rules, position, card); "
+             "is_why_not(rules, position, card, value)",
+    "search": "how_many_come(rules, position); by_distance(rules, position); moves_between(rules, position, other); "
+              "game_between(rules, position, other); least_moves(rules, position); shortest_game(rules, position); "
+              "is_shortest_game(rules, position, value); closed_set(rules, position); "
+              "is_closed_set(rules, position, value); good_moves(rules, position); losing_moves(rules, position); "
+              "is_lost(rules, position); won_and_lost(rules, position); deepest(rules, position); "
+              "lost_game(rules, position)",
+    "sent": "sent_home(rules, position); sendings(rules, position); is_sendings(rules, position, value); "
+            "how_many_orders(rules, position); harm_of(rules, position, card); harm_table()",
+    "games": "positions_of(rules, position, game); text_of_game(rules, position, game); "
+             "game_of_text(rules, position, text); last_for_good(rules, position, game); "
+             "way_back(rules, position, game); shortcut(rules, position, game); "
+             "is_shortcut(rules, position, game, value); by_cards(rules, position, game); "
+             "by_places(rules, position, told)",
+    "folded": "supermove_of(rules, position, game); folded(rules, position, game); "
+              "is_folded(rules, position, game, value); text_of_long(rules, position, long); "
+              "after_long(rules, position, long); unfolded(rules, position, long)",
+    "pieces": "rows_of(kind, empty); rows_hold(kind, empty, cells); steps_by_rows(kind, empty, cells, many); "
+              "cost_line(kind, empty); mean_price(kind, empty); cells_for(kind, empty, many); "
+              "cells_within(kind, empty, many, steps); how_many_at(kind, empty, price)",
+    "live": "is_deed(live, value)",
 }
+
+METHODS = {"__init__": ["self", "rules", "position"], "rules": ["self"], "position": ["self"], "told": ["self"],
+           "do": ["self", "deed"], "undo": ["self"], "redo": ["self"], "log": ["self"], "copy": ["self"],
+           "game": ["self"], "singles": ["self"], "hints": ["self"], "done": ["self"]}
 
 
 class Interface(unittest.TestCase):
@@ -66,7 +97,20 @@ class Interface(unittest.TestCase):
                 function = getattr(module, name)
                 self.assertTrue(inspect.isfunction(function), name)
                 self.assertEqual(function.__module__, "supermoves." + file)
-                self.assertEqual(list(inspect.signature(function).parameters), told.split(", "), name)
+                wanted = told.split(", ") if told else []
+                self.assertEqual(list(inspect.signature(function).parameters), wanted, name)
                 for parameter in inspect.signature(function).parameters.values():
                     self.assertIs(parameter.default, inspect.Parameter.empty)
                     self.assertEqual(parameter.kind, inspect.Parameter.POSITIONAL_OR_KEYWORD)
+
+    def test_the_class_has_its_methods_in_its_own_body(self):
+        live = importlib.import_module("supermoves.live").LiveTable
+        self.assertEqual(live.__module__, "supermoves.live")
+        for name, parameters in METHODS.items():
+            self.assertTrue(inspect.isfunction(vars(live)[name]), name)
+            self.assertEqual(list(inspect.signature(vars(live)[name]).parameters), parameters)
+
+    def test_all_modules_are_told_here(self):
+        folder = pathlib.Path(importlib.import_module("supermoves").__file__).parent
+        files = {path.stem for path in folder.glob("*.py")} - {"__init__", "checks", "errors"}
+        self.assertEqual(files, set(FUNCTIONS))
